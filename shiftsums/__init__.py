@@ -1,0 +1,1 @@
+"""Shiftsums: times a number by shifts and sums alone."""
