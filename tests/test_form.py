@@ -34,6 +34,8 @@ LEFT_OUT = (
     ast.AsyncFunctionDef, ast.AsyncFor, ast.AsyncWith, ast.SetComp, ast.DictComp, ast.GeneratorExp, ast.NamedExpr,
     ast.Starred, ast.Div, ast.MatMult, ast.Import, ast.AnnAssign,
 )
+WALKED = ("zip", "enumerate", "reversed", "range", "items", "keys", "values")
+WALKERS = ("list", "tuple", "dict", "sorted", "sum", "any", "all", "enumerate", "zip", "min", "max", "join")
 
 
 def parsed(path):
@@ -48,6 +50,24 @@ def bound_at_top(path):
     return {node.name for node in parsed(path).body if isinstance(node, (ast.FunctionDef, ast.ClassDef))} | {
         target.id for node in parsed(path).body if isinstance(node, ast.Assign) for target in node.targets
     }
+
+
+def drawn_from(path):
+    """The package's files that a file draws from, by their names."""
+    return [node.module.split(".")[1] for node in nodes(path, ast.ImportFrom)]
+
+
+def drawn_names(path):
+    return [name.asname or name.name for node in nodes(path, ast.ImportFrom) for name in node.names]
+
+
+def walked_on_the_spot(path):
+    """The nodes of a file that stand where something is walked at once."""
+    spots = [node.iter for node in nodes(path, ast.For, ast.comprehension)]
+    for call in nodes(path, ast.Call):
+        if getattr(call.func, "id", getattr(call.func, "attr", "")) in WALKERS:
+            spots.extend(call.args)
+    return {(spot.lineno, spot.col_offset) for spot in spots}
 
 
 class Form(unittest.TestCase):
@@ -102,6 +122,39 @@ class Form(unittest.TestCase):
             for name in node.names:
                 self.assertIn(name.name, there, where)
 
+    def test_no_two_files_draw_from_one_another(self):
+        drawn = {path.stem: drawn_from(path) for path in FILES}
+        while drawn:
+            free = [name for name in drawn if not any(other in drawn for other in drawn[name])]
+            self.assertTrue(free, f"these draw from one another: {sorted(drawn)}")
+            drawn = {name: others for name, others in drawn.items() if name not in free}
+
+    def test_drawn_names_are_used_and_keep_their_meaning(self):
+        for path in FILES:
+            taken = drawn_names(path) + [node.name for node in nodes(path, ast.ClassDef)]
+            self.assertEqual(len(set(taken)), len(taken), path.name)
+            loaded = {node.id for node in nodes(path, ast.Name) if isinstance(node.ctx, ast.Load)}
+            self.assertEqual(sorted(set(drawn_names(path)) - loaded), [], path.name)
+            bound = [node.id for node in nodes(path, ast.Name) if not isinstance(node.ctx, ast.Load)]
+            bound += [node.arg for node in nodes(path, ast.arg)] + [node.name for node in nodes(path, ast.FunctionDef)]
+            self.assertEqual([name for name in bound if name in taken], [], path.name)
+
+    def test_walked_at_once(self):
+        for path in FILES:
+            spots = walked_on_the_spot(path)
+            for call in nodes(path, ast.Call):
+                if getattr(call.func, "id", getattr(call.func, "attr", "")) in WALKED:
+                    self.assertIn((call.lineno, call.col_offset), spots, f"{path.name}:{call.lineno}")
+
+    def test_sets_are_not_kept(self):
+        for path in FILES:
+            asked = [node for call in nodes(path, ast.Call) if ast.unparse(call.func) in ("len", "sorted") for node in call.args]
+            asked += [node for test in nodes(path, ast.Compare) for node in [test.left, *test.comparators]]
+            spots = {(node.lineno, node.col_offset) for node in asked}
+            for node in nodes(path, ast.Set, ast.Call):
+                if isinstance(node, ast.Set) or ast.unparse(node.func) in ("set", "frozenset"):
+                    self.assertIn((node.lineno, node.col_offset), spots, f"{path.name}:{node.lineno}")
+
     def test_statements_and_expressions(self):
         for node, where in self.each(*LEFT_OUT):
             self.fail(f"{where}: {node.__class__.__name__}")
@@ -111,6 +164,7 @@ class Form(unittest.TestCase):
             self.assertEqual(node.finalbody, [], where)
         for node, where in self.each(ast.Assign):
             self.assertEqual(len(node.targets), 1, where)
+            self.assertNotIsInstance(node.targets[0], (ast.Tuple, ast.List), where)
         for node, where in self.each(ast.ListComp):
             self.assertEqual(len(node.generators), 1, where)
             self.assertLessEqual(len(node.generators[0].ifs), 1, where)
