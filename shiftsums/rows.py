@@ -1,24 +1,24 @@
 """Rows: webs of one input that make told numbers, by signs and as shallow as can be."""
 
 from shiftsums.numbers import core
+from shiftsums.parts import deed_of, out_for, sign_of
 from shiftsums.signs import least, signs
-from shiftsums.webs import NO_OUT, deed_of, sign_of
 
 
 def by_signs(numbers):
     deeds = []
-    things = {}
+    parts = {}
     for odd in unlike_cores(numbers):
-        things[odd] = add_chain(deeds, odd)
-    return (1, deeds, [out_for(number, things) for number in numbers])
+        parts[odd] = (add_chain(deeds, odd), 0, 1)
+    return (1, deeds, [out_for(number, parts) for number in numbers])
 
 
 def deep(numbers):
     deeds = []
-    things = {}
+    parts = {}
     for odd in unlike_cores(numbers):
-        things[odd] = add_tree(deeds, odd)
-    return (1, deeds, [out_for(number, things) for number in numbers])
+        parts[odd] = (add_tree(deeds, odd), 0, 1)
+    return (1, deeds, [out_for(number, parts) for number in numbers])
 
 
 def least_depth(numbers):
@@ -35,13 +35,6 @@ def unlike_cores(numbers):
         if number != 0:
             found[core(number)[0]] = True
     return list(found)
-
-
-def out_for(number, things):
-    if number == 0:
-        return NO_OUT
-    parts = core(number)
-    return (things[parts[0]], parts[1], parts[2])
 
 
 def add_chain(deeds, odd):

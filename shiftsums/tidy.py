@@ -1,7 +1,8 @@
 """Webs tidied: which things are used, the web without the others, and without alike ones."""
 
 from shiftsums.numbers import core, shifted
-from shiftsums.webs import NO_OUT, deed_arrows, deed_of, numbers, second_sign, sign_of, thing_count
+from shiftsums.parts import deed_of, parts_of, sign_of
+from shiftsums.webs import NO_OUT, deed_arrows, numbers, thing_count
 
 
 def used(web):
@@ -68,10 +69,6 @@ def merged(web):
         kept[form[0]] = (web[0] + len(deeds), form[1], form[2] * sign_of(parts[0], parts[1]))
         deeds.append(deed_of(parts[0], parts[1]))
     return (web[0], deeds, [part_by(kept, forms, out) for out in web[2]])
-
-
-def parts_of(deed):
-    return [(deed[1], deed[2], 1), (deed[3], deed[4], second_sign(deed))]
 
 
 def part_by(kept, forms, part):

@@ -118,17 +118,3 @@ def out_arrows(web):
 
 def thing_count(web):
     return web[0] + len(web[1])
-
-
-def deed_of(one, other):
-    # The deed for the sum of two parts, each (thing, shift, sign) like an out. No deed turns both of its parts:
-    # where both signs are -1 it makes the sum turned, and sign_of tells -1.
-    if one[2] == other[2]:
-        return ("sum", one[0], one[1], other[0], other[1])
-    if one[2] == 1:
-        return ("less", one[0], one[1], other[0], other[1])
-    return ("less", other[0], other[1], one[0], one[1])
-
-
-def sign_of(one, other):
-    return one[2] if one[2] == other[2] else 1

@@ -1,5 +1,7 @@
-"""Webs and numbers for the tests, and what a web makes, told by fractions and apart from the program."""
+"""Webs and numbers for the tests, and what webs make and can make, told by fractions, by going through all, and apart
+from the program."""
 
+import functools
 import random
 from fractions import Fraction
 
@@ -95,3 +97,39 @@ def some_webs(seed, count=60, furthest=40):
 def doublings(count, word="sum"):
     """A web of one input in which each deed takes the thing ahead of it twice."""
     return (1, [(word, k, 0, k, 0) for k in range(count)], [(count, 0, 1)])
+
+
+def plain_core(number):
+    number = abs(number)
+    while number != 0 and number % 2 == 0:
+        number //= 2
+    return number
+
+
+@functools.cache
+def plain_pair(u, v):
+    """The cores, up to far above 99, of all that a deed makes of two things with the cores u and v."""
+    near = range(12)
+    sums = [u * 2 ** i + sign * v * 2 ** j for i in near for j in near for sign in (1, -1)]
+    return frozenset(plain_core(number) for number in sums if number != 0)
+
+
+def plain_made(cores, top):
+    return sorted({odd for u in cores for v in cores for odd in plain_pair(u, v) if odd <= top})
+
+
+@functools.cache
+def plain_reach(top, deeds):
+    """All sets of cores that webs within top with at most so many deeds have."""
+    if deeds == 0:
+        return frozenset({frozenset({1})})
+    return frozenset(cores | {odd} for cores in plain_reach(top, deeds - 1) for odd in plain_made(cores, top))
+
+
+def plain_fewest(asked, top, most):
+    """How few deeds a row within top needs for the numbers; None where most of them are not enough."""
+    needed = {plain_core(number) for number in asked} - {0}
+    for deeds in range(most + 1):
+        if any(needed <= cores for cores in plain_reach(top, deeds)):
+            return deeds
+    return None
