@@ -15,7 +15,7 @@ def made(cores, top):
         for high in doublings(left, top):
             for right in cores:
                 sums[high + right] = True
-                sums[abs(high - right)] = True
+                sums[high - right] = True
     return sorted(set([odd for odd in cores_of(sums) if 0 < odd <= top]))
 
 

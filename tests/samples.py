@@ -99,6 +99,27 @@ def doublings(count, word="sum"):
     return (1, [(word, k, 0, k, 0) for k in range(count)], [(count, 0, 1)])
 
 
+def plain_used(web):
+    """Which things are used, by going on as long as one more is found."""
+    ins, deeds, outs = web
+    found = {thing for thing, shift, sign in outs if sign != 0}
+    while True:
+        more = {thing for k, (word, a, s, b, t) in enumerate(deeds) if ins + k in found for thing in (a, b)}
+        if more <= found:
+            return [thing in found for thing in range(ins + len(deeds))]
+        found |= more
+
+
+def shifts_of(web):
+    return [shift for deed in web[1] for shift in (deed[2], deed[4])] + [out[1] for out in web[2]]
+
+
+def without_downs(web):
+    """The web with its shifts below 0 taken as those above."""
+    ins, deeds, outs = web
+    return (ins, [(word, a, abs(s), b, abs(t)) for word, a, s, b, t in deeds], [(thing, abs(shift), sign) for thing, shift, sign in outs])
+
+
 def plain_core(number):
     number = abs(number)
     while number != 0 and number % 2 == 0:

@@ -3,7 +3,7 @@
 import copy
 import unittest
 
-from samples import SIXTY, chance, doublings, plain_out_rows, plain_rows, plain_value, some_web
+from samples import SIXTY, chance, doublings, plain_out_rows, plain_rows, plain_value, shifts_of, some_web, without_downs
 from shiftsums.errors import NoJoin
 from shiftsums.fewest import fewest
 from shiftsums.joins import behind, beside, both
@@ -16,16 +16,6 @@ from shiftsums.webs import is_web, out_numbers
 ADDED = ("sum", 0, 1, 0, 0)
 THREE = (1, [ADDED], [(1, 0, 1)])
 FEW = (0, 1, 2, 5, 11)
-
-
-def shifts_of(web):
-    return [shift for deed in web[1] for shift in (deed[2], deed[4])] + [out[1] for out in web[2]]
-
-
-def without_downs(web):
-    """The web with its shifts below 0 taken as those above."""
-    ins, deeds, outs = web
-    return (ins, [(word, a, abs(s), b, abs(t)) for word, a, s, b, t in deeds], [(thing, abs(shift), sign) for thing, shift, sign in outs])
 
 
 def product(one, other):

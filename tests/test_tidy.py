@@ -3,7 +3,7 @@
 import copy
 import unittest
 
-from samples import chance, doublings, one_row, plain_out_rows, plain_rows, some_web, some_webs
+from samples import chance, doublings, one_row, plain_out_rows, plain_rows, plain_used, some_web, some_webs
 from shiftsums.rows import by_signs, deep
 from shiftsums.tidy import bare, is_bare, pruned, used
 from shiftsums.webs import is_web
@@ -16,17 +16,6 @@ def many_webs(seed):
     yield from some_webs(seed)
     for furthest in (0, 1, 2, 3):
         yield from some_webs(seed + furthest, 40, furthest)
-
-
-def plain_used(web):
-    """Which things are used, by going on as long as one more is found."""
-    ins, deeds, outs = web
-    found = {thing for thing, shift, sign in outs if sign != 0}
-    while True:
-        more = {thing for k, (word, a, s, b, t) in enumerate(deeds) if ins + k in found for thing in (a, b)}
-        if more <= found:
-            return [thing in found for thing in range(ins + len(deeds))]
-        found |= more
 
 
 def alike(one, other):
